@@ -1,0 +1,1 @@
+"""Heapwords: words in which some letters may change places."""
