@@ -7,6 +7,14 @@ def is_tied(ground, one, other):
     return one == other or one + other in ties or other + one in ties
 
 
+def any_tied(ground, letters, others):
+    for one in letters:
+        for other in others:
+            if is_tied(ground, one, other):
+                return True
+    return False
+
+
 def only(word, letters):
     return "".join([letter for letter in word if letter in letters])
 

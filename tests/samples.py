@@ -44,3 +44,18 @@ def things_that_are_no_text():
 
 
 NO_TEXTS = things_that_are_no_text()
+
+
+def few_grounds():
+    """Grounds of one to five letters: with no ties, with some and with all."""
+    found = [(letters, ()) for letters in ("a", "q", "ab", "mz", "abc", "abcd", "abcde")]
+    found += [(letters, all_ties(letters)) for letters in ("ab", "mz", "abc", "abcd", "abcde")]
+    found += [("abc", ("ab",)), ("abc", ("ac",)), ("abc", ("bc",)), ("bqx", ("bq", "qx")), ("abc", ("ab", "ac"))]
+    found += [("abcd", ("ab", "cd")), ("abcd", ("ab", "bc", "cd")), ("abcd", ("ac", "ad", "bd")), ("cfyz", ("cz",))]
+    found += [("abcd", ("ab", "ad", "bc", "cd")), ("abcd", ("ab", "ac", "bc")), ("abcd", ("ad", "bd", "cd"))]
+    found += [("abcde", ("ab", "bc", "cd", "de")), ("abcde", ("ab", "ae", "bc", "cd", "de")), ("abcde", ("ad", "ce"))]
+    found += [("amnyz", ("az", "mn", "my", "ny")), ("abcde", ("ae", "be", "ce", "de")), ("abcde", ("bd",))]
+    return found
+
+
+FEW_GROUNDS = few_grounds()

@@ -45,6 +45,15 @@ def drawn_from(tree):
     return [node.module for node in ast.walk(tree) if isinstance(node, ast.ImportFrom)]
 
 
+def drawn_names(tree):
+    return [drawn.name for node in tree.body if isinstance(node, ast.ImportFrom) for drawn in node.names]
+
+
+def defined_in(tree):
+    found = [node.name for node in tree.body if isinstance(node, (ast.FunctionDef, ast.ClassDef))]
+    return found + [node.targets[0].id for node in tree.body if isinstance(node, ast.Assign)]
+
+
 class Files(unittest.TestCase):
     def test_plain_names(self):
         self.assertIn(PACKAGE / "__init__.py", files())
@@ -100,6 +109,24 @@ class Forms(unittest.TestCase):
                     self.assertLessEqual(len(node.generators[0].ifs), 1, (name, node.lineno))
 
 
+    def test_a_set_is_sorted_on_the_spot(self):
+        for name, tree in trees():
+            called = [node for node in ast.walk(tree) if isinstance(node, ast.Call) and isinstance(node.func, ast.Name)]
+            sets = [node for node in called if node.func.id in ("set", "frozenset")]
+            at_once = [node.args[0] for node in called if node.func.id in ("sorted", "len") and not node.keywords]
+            self.assertEqual([node.lineno for node in sets if node not in at_once], [], name)
+
+    def test_only_errors_of_the_program_are_taken_and_each_is_made_on_the_spot(self):
+        own = [node.name for name, tree in trees() for node in ast.walk(tree) if isinstance(node, ast.ClassDef)]
+        for name, tree in trees():
+            for node in ast.walk(tree):
+                if isinstance(node, ast.ExceptHandler):
+                    self.assertIn(node.type.id, own, (name, node.lineno))
+                if isinstance(node, ast.Raise):
+                    self.assertIsInstance(node.exc, ast.Call, (name, node.lineno))
+                    self.assertIn(node.exc.func.id, own, (name, node.lineno))
+
+
 class Names(unittest.TestCase):
     def test_imports(self):
         modules = ["heapwords." + path.stem for path in files()]
@@ -114,6 +141,30 @@ class Names(unittest.TestCase):
             free = [module for module in left if not any(other in left for other in left[module])]
             self.assertNotEqual(free, [], sorted(left))
             left = {module: left[module] for module in left if module not in free}
+
+    def test_a_name_is_drawn_from_the_file_that_defines_it(self):
+        for name, tree in trees():
+            for node in ast.walk(tree):
+                if isinstance(node, ast.ImportFrom):
+                    source = ast.parse((PACKAGE / (node.module.split(".")[1] + ".py")).read_text())
+                    for drawn in node.names:
+                        self.assertIsNone(drawn.asname, (name, node.lineno))
+                        self.assertIn(drawn.name, defined_in(source), (name, node.lineno))
+
+    def test_each_name_once_at_the_top(self):
+        for name, tree in trees():
+            bound = defined_in(tree) + drawn_names(tree)
+            self.assertEqual(len(bound), len(set(bound)), name)
+
+    def test_no_parameter_or_local_is_called_like_a_name_of_the_top(self):
+        for name, tree in trees():
+            top = defined_in(tree) + drawn_names(tree)
+            for function in [node for node in ast.walk(tree) if isinstance(node, ast.FunctionDef)]:
+                for node in ast.walk(function):
+                    if isinstance(node, ast.Name) and isinstance(node.ctx, ast.Store):
+                        self.assertNotIn(node.id, top, (name, node.lineno))
+                    if isinstance(node, ast.arg):
+                        self.assertNotIn(node.arg, top, (name, node.lineno))
 
     def test_built_in_names(self):
         for name, tree in trees():
